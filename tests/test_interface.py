@@ -1,0 +1,73 @@
+"""The interface: names, parameters, and the file and class in which each thing is defined."""
+
+import ast
+import importlib
+import inspect
+import pathlib
+import unittest
+
+PACKAGE = pathlib.Path(__file__).resolve().parent.parent / "threecounts"
+
+FUNCTIONS = {
+    "validation": ["is_integer(value, low, high)", "is_char(value)", "is_chars(value)", "is_list(value)",
+                   "is_kind(value)", "is_name(value)", "parse_integer(text, *, low=0, high=999999)",
+                   "split_words(text, *, separator=' ')"],
+    "texts": ["width(char, kind)", "items(char, kind)", "joined(*texts)", "compare(one, other, kind)"],
+    "codecs": ["byte_list(text)", "unit_list(text)", "text_of_bytes(items)", "text_of_units(items)",
+               "beginning(items, kind)", "span_at(items, index, kind)"],
+}
+
+METHODS = {
+    ("texts", "Text"): ["__init__(self, chars)", "chars(self)", "count(self, kind)", "part(self, start, end)"],
+    ("codecs", "Reader"): ["__init__(self, kind)", "feed(self, items)", "pending(self)", "text(self)", "close(self)"],
+}
+OPERATORS = {
+    ("texts", "Text"): ["__len__", "__getitem__", "__iter__", "__contains__", "__add__", "__radd__", "__eq__",
+                        "__lt__", "__gt__"],
+    ("codecs", "Reader"): ["__len__"],
+}
+PROPERTIES = {("texts", "Text"): ["in_bytes", "in_units", "in_chars"], ("codecs", "Reader"): ["missing"]}
+
+
+def module(name):
+    return importlib.import_module("threecounts." + name)
+
+
+def body_of(name):
+    return ast.parse((PACKAGE / (name + ".py")).read_text()).body
+
+
+class Interface(unittest.TestCase):
+
+    def test_functions(self):
+        for name, rows in FUNCTIONS.items():
+            defined = [row.name for row in body_of(name) if isinstance(row, ast.FunctionDef)]
+            for row in rows:
+                with self.subTest(row):
+                    word = row.split("(")[0]
+                    self.assertIn(word, defined)
+                    self.assertEqual(word + str(inspect.signature(getattr(module(name), word))), row)
+
+    def test_methods(self):
+        for (name, label), rows in METHODS.items():
+            defined = [row.name for row in body_of(name) if isinstance(row, ast.ClassDef)]
+            self.assertIn(label, defined)
+            own = vars(getattr(module(name), label))
+            for row in rows:
+                with self.subTest(row):
+                    word = row.split("(")[0]
+                    self.assertEqual(word + str(inspect.signature(own[word])), row)
+
+    def test_operators_and_properties(self):
+        for (name, label), words in OPERATORS.items():
+            own = vars(getattr(module(name), label))
+            for word in words:
+                self.assertTrue(inspect.isfunction(own[word]), word)
+        for (name, label), words in PROPERTIES.items():
+            own = vars(getattr(module(name), label))
+            for word in words:
+                self.assertIsInstance(own[word], property)
+
+
+if __name__ == "__main__":
+    unittest.main()
