@@ -4,7 +4,7 @@ import doctest
 import pathlib
 import unittest
 
-from threecounts import codecs, errors, texts, validation
+from threecounts import codecs, deltas, edits, errors, lines, places, texts, validation
 
 STAGE_1 = """
     >>> [is_char(1114111), is_char(55296), is_chars([104, 128512]), is_kind("char"), is_name("editor")]
@@ -40,7 +40,58 @@ STAGE_3 = """
     [2, (1, 5, 128512)]
 """
 
-MODULES = [errors, validation, texts, codecs]
+STAGE_4 = """
+    >>> text = Text([104, 8364, 128512])
+    >>> [translated(text, 4, "bytes", "units"), numbers(text, "bytes"), is_place(text, 5, "bytes"), place_at(text, 2, "units").after()]
+    [2, [0, 1, 4, 8], False, 128512]
+    >>> place_at(text, 6, "bytes")
+    raises MidChar(6, 4, 8)
+    >>> cursor = Cursor(text)
+    >>> cursor["units"] = 2
+    >>> cursor -= 1
+    >>> [cursor.count("bytes"), cursor.read(3, "bytes").chars(), cursor.count("chars"), nearest(text, 7, "bytes").in_chars]
+    [1, [8364], 2, 2]
+"""
+
+STAGE_5 = """
+    >>> lines = Lines(Text([97, 13, 10, 8364, 128512, 13, 98]))
+    >>> [len(lines), lines.line(1).chars(), lines.ending(0), lines.row_start(2, "bytes"), lines.line(2).chars()]
+    [3, [8364, 128512], [13, 10], 11, [98]]
+    >>> [lines.position(6, "bytes"), lines.position(2, "chars"), lines.position(4, "chars", columns="units"), lines.column_in(1, 7, "bytes", "units")]
+    [(1, 3), (0, 1), (1, 1), 3]
+    >>> [lines.number_at(1, 3, "bytes"), lines.number_at(9, 9, "chars", clamp=True), lines.number_at(1, 2, "units", clamp=True)]
+    [6, 7, 4]
+    >>> lines.number_at(1, 2, "units")
+    raises MidChar(2, 1, 3)
+    >>> [unifying(Text([97, 13, 10, 98, 13]), [10]).rows(), text_width(Text([97, 98, 10, 8364]))]
+    [[('keep', 1), ('drop', 1), ('keep', 2), ('put', [10]), ('drop', 1)], {'bytes': 3, 'units': 2, 'chars': 2}]
+"""
+
+STAGE_6 = """
+    >>> delta = Delta([("keep", 1), ("drop", 1), ("put", [120]), ("drop", 1), ("put", [121]), ("keep", 0)])
+    >>> [delta.rows(), delta.length_before, delta.length_after, delta(Text([97, 98, 99])).chars()]
+    [[('keep', 1), ('put', [120, 121]), ('drop', 2)], 3, 3, [97, 120, 121]]
+    >>> back = delta.inverted(Text([97, 98, 99]))
+    >>> [back.rows(), (delta + back).is_plain, (delta + Delta([("drop", 3)])).rows()]
+    [[('keep', 1), ('put', [98, 99]), ('drop', 2)], False, [('drop', 3)]]
+    >>> one, other = Delta([("put", [88]), ("drop", 2)]), Delta([("keep", 1), ("put", [89]), ("keep", 1)])
+    >>> [one.over(other, first=False).rows(), (one + other.over(one, first=True)).rows()]
+    [[('put', [88]), ('drop', 1), ('keep', 1), ('drop', 1)], [('put', [88, 89]), ('drop', 2)]]
+"""
+
+STAGE_7 = """
+    >>> text = Text([104, 128512, 33])
+    >>> delta = delta_from([("keep", 1), ("drop", 2), ("put", [120])], text, "units")
+    >>> [delta.rows(), counted(delta, text, "bytes"), delta(text).chars()]
+    [[('keep', 1), ('put', [120]), ('drop', 1), ('keep', 1)], [('keep', 1), ('put', [120]), ('drop', 4), ('keep', 1)], [104, 120, 33]]
+    >>> edits = [(5, 6, []), (1, 1, [120]), (1, 5, [121])]
+    >>> [together(edits, text, "bytes").rows(), in_turn([(0, 1, []), (0, 2, [65])], text, "units")(text).chars()]
+    [[('keep', 1), ('put', [120, 121]), ('drop', 2)], [65, 33]]
+    >>> [edits_of(delta, text, "units"), recounted_in_turn([(0, 1, [128512]), (2, 4, [])], text, "units", "bytes")]
+    [[(1, 3, [120])], [(0, 1, [128512]), (4, 8, [])]]
+"""
+
+MODULES = [errors, validation, texts, codecs, places, lines, deltas, edits]
 
 
 def steps_of(example):
@@ -83,6 +134,18 @@ class Examples(unittest.TestCase):
 
     def test_stage_3(self):
         self.check(STAGE_3)
+
+    def test_stage_4(self):
+        self.check(STAGE_4)
+
+    def test_stage_5(self):
+        self.check(STAGE_5)
+
+    def test_stage_6(self):
+        self.check(STAGE_6)
+
+    def test_stage_7(self):
+        self.check(STAGE_7)
 
     def test_readme(self):
         path = pathlib.Path(__file__).resolve().parent.parent / "README.md"

@@ -15,18 +15,44 @@ FUNCTIONS = {
     "texts": ["width(char, kind)", "items(char, kind)", "joined(*texts)", "compare(one, other, kind)"],
     "codecs": ["byte_list(text)", "unit_list(text)", "text_of_bytes(items)", "text_of_units(items)",
                "beginning(items, kind)", "span_at(items, index, kind)"],
+    "places": ["place_at(text, number, kind)", "translated(text, number, kind, other)",
+               "is_place(text, number, kind)", "numbers(text, kind)",
+               "nearest(text, number, kind, *, after=False)"],
+    "lines": ["split_lines(text)", "unifying(text, ending)", "text_width(text)"],
+    "deltas": ["between(one, other)", "merged(*deltas)"],
+    "edits": ["counted(delta, text, kind)", "delta_from(rows, text, kind)", "together(edits, text, kind)",
+              "in_turn(edits, text, kind)", "edits_of(delta, text, kind)", "recounted(edits, text, kind, other)",
+              "recounted_in_turn(edits, text, kind, other)"],
 }
 
 METHODS = {
     ("texts", "Text"): ["__init__(self, chars)", "chars(self)", "count(self, kind)", "part(self, start, end)"],
     ("codecs", "Reader"): ["__init__(self, kind)", "feed(self, items)", "pending(self)", "text(self)", "close(self)"],
+    ("places", "Place"): ["__init__(self, text, chars)", "text(self)", "count(self, kind)", "before(self)",
+                          "after(self)"],
+    ("places", "Cursor"): ["__init__(self, text, chars=0)", "place(self)", "count(self, kind)",
+                           "read(self, number, kind)"],
+    ("lines", "Lines"): ["__init__(self, text)", "line(self, row)", "ending(self, row)", "row_start(self, row, kind)",
+                         "position(self, number, kind, *, columns=None)", "column_in(self, row, column, kind, other)",
+                         "number_at(self, row, column, kind, *, clamp=False)"],
+    ("deltas", "Delta"): ["__init__(self, rows)", "rows(self)", "__call__(self, text)", "inverted(self, text)",
+                          "over(self, other, *, first)"],
 }
 OPERATORS = {
     ("texts", "Text"): ["__len__", "__getitem__", "__iter__", "__contains__", "__add__", "__radd__", "__eq__",
                         "__lt__", "__gt__"],
     ("codecs", "Reader"): ["__len__"],
+    ("places", "Place"): ["__add__", "__sub__", "__eq__"],
+    ("places", "Cursor"): ["__setitem__", "__iadd__", "__isub__"],
+    ("lines", "Lines"): ["__len__", "__eq__"],
+    ("deltas", "Delta"): ["__eq__", "__add__"],
 }
-PROPERTIES = {("texts", "Text"): ["in_bytes", "in_units", "in_chars"], ("codecs", "Reader"): ["missing"]}
+PROPERTIES = {
+    ("texts", "Text"): ["in_bytes", "in_units", "in_chars"],
+    ("codecs", "Reader"): ["missing"],
+    ("places", "Place"): ["in_bytes", "in_units", "in_chars"],
+    ("deltas", "Delta"): ["length_before", "length_after", "is_plain"],
+}
 
 
 def module(name):

@@ -10,10 +10,18 @@ MOST_DIGITS = 30
 
 def is_integer(value, low, high):
     """Tell whether value is an integer from low to high."""
+    return is_whole(value) and low <= value <= high
+
+
+def is_whole(value):
+    """Tell whether value is an integer of any size."""
     # Python counts True and False among the integers, the document does not.
-    if isinstance(value, bool) or not isinstance(value, int):
-        return False
-    return low <= value <= high
+    return isinstance(value, int) and not isinstance(value, bool)
+
+
+def is_flag(value):
+    """Tell whether value is True or False, and not only equal to one of them."""
+    return value is True or value is False
 
 
 def is_char(value):
