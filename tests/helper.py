@@ -1,5 +1,6 @@
 """What several test files need: a test case that looks into exceptions, values of all sorts, sample texts."""
 
+import itertools
 import unittest
 
 from threecounts.codecs import Reader
@@ -46,9 +47,9 @@ def utf16(chars):
 
 def counts_after(chars):
     """For each kind the list of the counts of the first 0, 1, 2 .. characters, by Python's own encodings."""
-    firsts = [chars[:ahead] for ahead in range(len(chars) + 1)]
-    return {"bytes": [len(utf8(part)) for part in firsts], "units": [len(utf16(part)) for part in firsts],
-            "chars": list(range(len(firsts)))}
+    sizes = {"bytes": [len(utf8([char])) for char in chars], "units": [len(utf16([char])) for char in chars],
+             "chars": [1] * len(chars)}
+    return {kind: list(itertools.accumulate(sizes[kind], initial=0)) for kind in sizes}
 
 
 def random_chars(source, most):

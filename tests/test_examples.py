@@ -4,7 +4,8 @@ import doctest
 import pathlib
 import unittest
 
-from threecounts import codecs, deltas, edits, errors, lines, places, texts, validation
+from threecounts import (claims, codecs, deltas, drafts, edits, errors, index, lines, places, server, texts,
+                         validation)
 
 STAGE_1 = """
     >>> [is_char(1114111), is_char(55296), is_chars([104, 128512]), is_kind("char"), is_name("editor")]
@@ -91,7 +92,53 @@ STAGE_7 = """
     [[(1, 3, [120])], [(0, 1, [128512]), (4, 8, [])]]
 """
 
-MODULES = [errors, validation, texts, codecs, places, lines, deltas, edits]
+STAGE_8 = """
+    >>> draft = Draft(Text([104, 128512, 33]))
+    >>> draft[2] = 8364
+    >>> draft += [10]
+    >>> [draft.replace(1, 3, [105], "units").chars(), draft.in_bytes, draft.made().rows()]
+    [[104, 105, 8364, 10], 6, [('keep', 1), ('put', [105, 8364, 10]), ('drop', 2)]]
+    >>> draft.drop(2, 4, "bytes")
+    raises MidChar(4, 2, 5)
+    >>> [draft.take_back().chars(), len(draft.changes()), draft.text() == draft.made()(draft.begun())]
+    [[104, 128512, 8364, 10], 2, True]
+"""
+
+STAGE_9 = """
+    >>> index = Index(Text([97, 13, 10, 8364, 128512]))
+    >>> [index.find(4, "units"), index.line_of(2), index.line_start(1), index.blocks(), index.looked()]
+    [(6, 4, 4), 0, 3, [(0, 5)], [(0, 5)]]
+    >>> index.replace(2, 2, [10, 65, 66, 67])
+    >>> [index.lines(), index.text().chars()[:4], index.height(), index.count("bytes"), len(index.blocks())]
+    [3, [97, 13, 10, 65], 2, 14, 2]
+"""
+
+STAGE_10 = """
+    >>> [is_possible((4, 2, 1)), is_possible((4, 1, 1)), range_of("chars", in_bytes=10, in_units=5), text_with((10, 5, 3)).count("bytes")]
+    [True, False, (3, 5), 10]
+    >>> claims = [(5, 3, None), (None, 5, 4), (12, None, 5)]
+    >>> [bears(bearing(claims), claims), bearing([(5, 3, None), (None, 5, 2)])]
+    [True, None]
+    >>> conflict = [(5, 3, None), (None, 5, 2)]
+    >>> [layers_of(conflict), shows_conflict(conflict, [[(5, 3, 2), (5, 3, 3)], []]), first_conflict(conflict)]
+    [[[(5, 3, 2), (5, 3, 3)], []], True, 2]
+    >>> possible_at(claims, 1)
+    [(8, 5, 4), (9, 5, 4), (10, 5, 4), (11, 5, 4)]
+"""
+
+STAGE_11 = """
+    >>> server = Server(Text([104, 128512]))
+    >>> [server.join("ann", "bytes"), server.join("bob", "units"), server.submit("ann", 0, [("keep", 1), ("put", [8364])])]
+    [0, 0, [('ann', ('ack', 1)), ('bob', ('change', 1, [('keep', 1), ('put', [8364]), ('keep', 2)]))]]
+    >>> [server.submit("bob", 0, [("keep", 1), ("put", [33]), ("drop", 2)])[0], server.text().chars(), server.version, server.author(1)]
+    [('ann', ('change', 2, [('keep', 4), ('put', [33]), ('drop', 4)])), [104, 8364, 33], 2, 'bob']
+    >>> server.set_mark("m", 1, "chars", after=True)
+    >>> message = server.submit("ann", 2, [("keep", 1), ("put", [45])])
+    >>> [server.marks(), server.mark("m").in_bytes]
+    [[(2, 'm')], 2]
+"""
+
+MODULES = [errors, validation, texts, codecs, places, lines, deltas, edits, drafts, index, claims, server]
 
 
 def steps_of(example):
@@ -146,6 +193,18 @@ class Examples(unittest.TestCase):
 
     def test_stage_7(self):
         self.check(STAGE_7)
+
+    def test_stage_8(self):
+        self.check(STAGE_8)
+
+    def test_stage_9(self):
+        self.check(STAGE_9)
+
+    def test_stage_10(self):
+        self.check(STAGE_10)
+
+    def test_stage_11(self):
+        self.check(STAGE_11)
 
     def test_readme(self):
         path = pathlib.Path(__file__).resolve().parent.parent / "README.md"

@@ -23,6 +23,10 @@ FUNCTIONS = {
     "edits": ["counted(delta, text, kind)", "delta_from(rows, text, kind)", "together(edits, text, kind)",
               "in_turn(edits, text, kind)", "edits_of(delta, text, kind)", "recounted(edits, text, kind, other)",
               "recounted_in_turn(edits, text, kind, other)"],
+    "claims": ["is_possible(counts)", "range_of(kind, *, in_bytes=None, in_units=None, in_chars=None)",
+               "text_with(counts)", "bearing(claims)", "bears(text, claims)", "layers_of(claims)",
+               "layers_hold(claims, layers)", "shows_conflict(claims, layers)", "first_conflict(claims)",
+               "possible_at(claims, index)"],
 }
 
 METHODS = {
@@ -37,6 +41,17 @@ METHODS = {
                          "number_at(self, row, column, kind, *, clamp=False)"],
     ("deltas", "Delta"): ["__init__(self, rows)", "rows(self)", "__call__(self, text)", "inverted(self, text)",
                           "over(self, other, *, first)"],
+    ("drafts", "Draft"): ["__init__(self, text)", "text(self)", "begun(self)", "apply(self, delta)",
+                          "insert(self, number, chars, kind)", "drop(self, start, end, kind)",
+                          "replace(self, start, end, chars, kind)", "changes(self)", "made(self)", "take_back(self)"],
+    ("index", "Index"): ["__init__(self, text)", "text(self)", "count(self, kind)", "lines(self)", "height(self)",
+                         "blocks(self)", "find(self, number, kind)", "line_of(self, chars)", "line_start(self, line)",
+                         "looked(self)", "replace(self, start, end, chars)"],
+    ("server", "Server"): ["__init__(self, text)", "text(self, version=None)", "delta(self, version)",
+                           "author(self, version)", "join(self, name, kind)", "names(self)", "kind_of(self, name)",
+                           "submit(self, name, version, rows)", "missed(self, name, version)",
+                           "set_mark(self, label, number, kind, *, after=False)", "remove_mark(self, label)",
+                           "mark(self, label)", "marks(self)"],
 }
 OPERATORS = {
     ("texts", "Text"): ["__len__", "__getitem__", "__iter__", "__contains__", "__add__", "__radd__", "__eq__",
@@ -46,12 +61,16 @@ OPERATORS = {
     ("places", "Cursor"): ["__setitem__", "__iadd__", "__isub__"],
     ("lines", "Lines"): ["__len__", "__eq__"],
     ("deltas", "Delta"): ["__eq__", "__add__"],
+    ("drafts", "Draft"): ["__len__", "__getitem__", "__iter__", "__setitem__", "__iadd__"],
+    ("index", "Index"): ["__eq__"],
 }
 PROPERTIES = {
     ("texts", "Text"): ["in_bytes", "in_units", "in_chars"],
     ("codecs", "Reader"): ["missing"],
     ("places", "Place"): ["in_bytes", "in_units", "in_chars"],
     ("deltas", "Delta"): ["length_before", "length_after", "is_plain"],
+    ("drafts", "Draft"): ["in_bytes", "in_units", "in_chars"],
+    ("server", "Server"): ["version"],
 }
 
 

@@ -63,7 +63,7 @@ class Delta:
 
     def __call__(self, text):
         check_before(self, text)
-        return Text(carried_out(self.segments, text.chars()))
+        return text_after(self, text)
 
     def __eq__(self, other):
         return isinstance(other, Delta) and self.segments == other.segments
@@ -92,6 +92,11 @@ class Delta:
 def delta_of(rows):
     """Return the delta of rows that are known to be valid, of any number and length."""
     return Delta(Segments(rows))
+
+
+def text_after(delta, text):
+    """Return the text after a change, if it is known that the delta is for this text."""
+    return Text(carried_out(delta.segments, text.chars()))
 
 
 def check_delta(delta):
@@ -203,21 +208,46 @@ def inverse(segments, chars):
 
 def moved(segments, others, first):
     """Return the rows that do what some segments do to the text after others."""
+    cuts = cuts_in(segments, others)
     puts = puts_in(segments)
-    stays = stays_in(segments)
+    stays = stays_between(cuts, segments)
     other_puts = puts_in(others)
-    other_stays = stays_in(others)
+    other_stays = stays_between(cuts, others)
     rows = []
-    for gap in range(len(stays) + 1):
+    for at, gap in enumerate(cuts):
         put = ("put", puts.get(gap, ()))
         keep = ("keep", len(other_puts.get(gap, ())))
         if first:
             rows.extend([put, keep])
         else:
             rows.extend([keep, put])
-        if gap < len(stays) and other_stays[gap]:
-            rows.append(("keep" if stays[gap] else "drop", 1))
+        if at < len(stays) and other_stays[at]:
+            rows.append(("keep" if stays[at] else "drop", cuts[at + 1] - gap))
     return rows
+
+
+def cuts_in(segments, others):
+    """Return the ascending gaps at which the text, or a run of kept or dropped characters, begins or ends."""
+    marked = {0: True}
+    for rows in (segments, others):
+        at = 0
+        for kept, put, dropped in rows:
+            marked[at + kept] = True
+            at = at + kept + dropped
+            marked[at] = True
+    return [gap for gap in range(size_before(segments) + 1) if gap in marked]
+
+
+def stays_between(cuts, segments):
+    """Return the list that tells of the characters between any two neighboring cuts whether they are kept."""
+    found = []
+    end = 0
+    for kept, put, dropped in segments:
+        for size, stays in ((kept, True), (dropped, False)):
+            end = end + size
+            while len(found) + 1 < len(cuts) and cuts[len(found) + 1] <= end:
+                found.append(stays)
+    return found
 
 
 def puts_in(segments):
@@ -228,15 +258,6 @@ def puts_in(segments):
         if len(put) > 0:
             found[at + kept] = put
         at = at + kept + dropped
-    return found
-
-
-def stays_in(segments):
-    """Return the list that tells of each character of the text whether it is kept."""
-    found = []
-    for kept, put, dropped in segments:
-        found.extend([True] * kept)
-        found.extend([False] * dropped)
     return found
 
 

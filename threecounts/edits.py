@@ -37,6 +37,7 @@ def delta_from(rows, text, kind):
     check_rows(rows, MOST_COUNT)
     check_text(text)
     check_kind(kind)
+    places = {number: ahead for ahead, number in enumerate(place_numbers(text, kind))}
     found = []
     ahead = 0
     number = 0
@@ -45,17 +46,19 @@ def delta_from(rows, text, kind):
             found.append((word, what))
         else:
             number = number + what
-            end = row_end(index, text, number, kind)
+            if number not in places:
+                refuse_row(index, text, number, kind)
+            end = places[number]
             found.append((word, end - ahead))
             ahead = end
     found.append(("keep", len(text) - ahead))
     return delta_of(found)
 
 
-def row_end(index, text, number, kind):
-    """Return after how many characters the row with an index ends, or raise BadRow."""
+def refuse_row(index, text, number, kind):
+    """Raise BadRow for a row that ends at a number that is no place."""
     try:
-        return chars_at(text, number, kind)
+        chars_at(text, number, kind)
     except (BadPlace, MidChar) as error:
         raise BadRow(index) from error
 
