@@ -4,8 +4,8 @@ import doctest
 import pathlib
 import unittest
 
-from threecounts import (claims, codecs, deltas, drafts, edits, errors, index, lines, places, server, texts,
-                         validation)
+from threecounts import (claims, codecs, company, deltas, drafts, edits, errors, index, lines, places, programs,
+                         server, session, strings, texts, validation)
 
 STAGE_1 = """
     >>> [is_char(1114111), is_char(55296), is_chars([104, 128512]), is_kind("char"), is_name("editor")]
@@ -138,7 +138,44 @@ STAGE_11 = """
     [[(2, 'm')], 2]
 """
 
-MODULES = [errors, validation, texts, codecs, places, lines, deltas, edits, drafts, index, claims, server]
+STAGE_12 = """
+    >>> text = Text([104, 128512])
+    >>> server, program = Server(text), Program("ann", "units", text, 0)
+    >>> [server.join("ann", "units"), server.join("bob", "bytes"), program.edit([(3, 3, [33])]), program.send()]
+    [0, 0, None, ('ann', 0, [('keep', 3), ('put', [33])])]
+    >>> message = server.submit("bob", 0, [("keep", 1), ("drop", 4)])[0][1]
+    >>> [message, program.receive(message), program.text().chars(), program.base().chars(), program.version]
+    [('change', 1, [('keep', 1), ('drop', 2)]), None, [104, 33], [104], 1]
+    >>> [program.undo(), program.text().chars(), program.undo_count, program.is_idle]
+    [None, [104], 0, False]
+"""
+
+STAGE_13 = """
+    >>> company = Company(Text([97, 8364]))
+    >>> [company.join("ann", "bytes"), company.join("bob", "units"), company.edit("ann", [(4, 4, [33])]), company.edit("bob", [(1, 2, [128512])])]
+    [0, 0, None, None]
+    >>> [company.send("ann"), company.deliver_up("ann"), company.text("bob").chars(), company.deliver_down("bob"), company.text("bob").chars()]
+    [True, 1, [97, 128512], ('change', 1, [('keep', 2), ('put', [33])]), [97, 128512, 33]]
+    >>> [company.queues("ann"), company.is_quiet, company.settle(), company.text("ann").chars(), company.version]
+    [(0, 1), False, 4, [97, 128512, 33], 2]
+"""
+
+STAGE_14 = """
+    >>> [delta_string(Delta([("keep", 2), ("put", [128512, 33]), ("drop", 1)])).split("\\n"), parse_text("104 8364").chars()]
+    [['keep 2', 'put 128512 33', 'drop 1'], [104, 8364]]
+    >>> [edits_string([(5, 6, []), (1, 1, [120])]).split("\\n"), parse_claims("5 3 -\\n- 5 4")]
+    [['5 6', '1 1 120'], [(5, 3, None), (None, 5, 4)]]
+    >>> parse_history("text 104 33\\nann keep 1 / put 8364 / keep 1")[1][0][0]
+    'ann'
+    >>> parse_history("text 104 33\\nann keep 1 / put 8364 / keep 1\\nbob keep 2")
+    raises InvalidLine(2)
+    >>> session = Session()
+    >>> [session.execute(line) for line in ["begin 104 128512", "join ann bytes", "edit ann 1 5 8364 / 5 5 33", "send ann", "up ann", "place 4 bytes units", "history"]]
+    ['ok', '0', 'ok', 'sent', '1', '2', 'text 104 128512 / ann keep 1 | put 8364 33 | drop 1']
+"""
+
+MODULES = [errors, validation, texts, codecs, places, lines, deltas, edits, drafts, index, claims, server, programs,
+           company, strings, session]
 
 
 def steps_of(example):
@@ -205,6 +242,15 @@ class Examples(unittest.TestCase):
 
     def test_stage_11(self):
         self.check(STAGE_11)
+
+    def test_stage_12(self):
+        self.check(STAGE_12)
+
+    def test_stage_13(self):
+        self.check(STAGE_13)
+
+    def test_stage_14(self):
+        self.check(STAGE_14)
 
     def test_readme(self):
         path = pathlib.Path(__file__).resolve().parent.parent / "README.md"

@@ -27,6 +27,9 @@ FUNCTIONS = {
                "text_with(counts)", "bearing(claims)", "bears(text, claims)", "layers_of(claims)",
                "layers_hold(claims, layers)", "shows_conflict(claims, layers)", "first_conflict(claims)",
                "possible_at(claims, index)"],
+    "strings": ["text_string(text)", "delta_string(delta)", "parse_text(string)", "parse_delta(string)",
+                "edits_string(edits)", "claims_string(claims)", "parse_edits(string)", "parse_claims(string)",
+                "history_string(company)", "parse_history(string)"],
 }
 
 METHODS = {
@@ -52,6 +55,16 @@ METHODS = {
                            "submit(self, name, version, rows)", "missed(self, name, version)",
                            "set_mark(self, label, number, kind, *, after=False)", "remove_mark(self, label)",
                            "mark(self, label)", "marks(self)"],
+    ("programs", "Program"): ["__init__(self, name, kind, text, version)", "base(self)", "text(self)",
+                              "edit(self, edits)", "change(self, rows)", "send(self)", "receive(self, message)",
+                              "undo(self)"],
+    ("company", "Company"): ["__init__(self, text)", "server_text(self, version=None)", "delta(self, version)",
+                             "author(self, version)", "join(self, name, kind)", "names(self)", "kind_of(self, name)",
+                             "text(self, name)", "base(self, name)", "version_of(self, name)", "queues(self, name)",
+                             "edit(self, name, edits)", "change(self, name, rows)", "undo(self, name)",
+                             "send(self, name)", "deliver_up(self, name)", "deliver_down(self, name)", "settle(self)"],
+    ("session", "Session"): ["__init__(self)", "execute(self, line)", "execute_all(self, lines)", "log(self)",
+                             "company(self)"],
 }
 OPERATORS = {
     ("texts", "Text"): ["__len__", "__getitem__", "__iter__", "__contains__", "__add__", "__radd__", "__eq__",
@@ -71,6 +84,8 @@ PROPERTIES = {
     ("deltas", "Delta"): ["length_before", "length_after", "is_plain"],
     ("drafts", "Draft"): ["in_bytes", "in_units", "in_chars"],
     ("server", "Server"): ["version"],
+    ("programs", "Program"): ["name", "kind", "version", "is_idle", "undo_count"],
+    ("company", "Company"): ["version", "is_quiet"],
 }
 
 

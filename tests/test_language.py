@@ -100,7 +100,8 @@ class Language(unittest.TestCase):
                 if isinstance(row, ast.Assign):
                     self.assertEqual(len(row.targets), 1, where)
                     self.assertIsInstance(row.targets[0], ast.Name, where)
-                    ast.literal_eval(row.value)
+                    self.check_value(row.value, [node.name for node in tree.body if isinstance(node, ast.FunctionDef)
+                                                 and node.lineno < row.lineno])
                     bound.append(row.targets[0].id)
                 else:
                     self.assertTrue(allowed, where)
@@ -109,6 +110,62 @@ class Language(unittest.TestCase):
                 elif not is_docstring(row) and not isinstance(row, ast.Assign):
                     bound.append(row.name)
             self.assertEqual(len(bound), len(set(bound)), name)
+
+    def check_value(self, node, functions):
+        """Check that a value is plain, or a dict, list or tuple of plain values and functions defined above."""
+        parts = [node]
+        if isinstance(node, ast.Dict):
+            parts = node.keys + node.values
+        elif isinstance(node, (ast.List, ast.Tuple)):
+            parts = node.elts
+        for part in parts:
+            if isinstance(part, ast.Name):
+                self.assertIn(part.id, functions)
+            else:
+                ast.literal_eval(part)
+                self.assertFalse(len(parts) > 1 and isinstance(part, (ast.Dict, ast.List)), "L15")
+
+    def test_l15_tables_are_only_read(self):
+        tables = {row.targets[0].id for tree in TREES.values() for row in tree.body
+                  if isinstance(row, ast.Assign) and isinstance(row.value, (ast.Dict, ast.List))}
+        for name, tree in TREES.items():
+            allowed = []
+            for node in ast.walk(tree):
+                if isinstance(node, ast.Subscript) and isinstance(node.ctx, ast.Load):
+                    allowed.append(node.value)
+                elif isinstance(node, ast.Attribute) and node.attr == "get":
+                    allowed.append(node.value)
+                elif isinstance(node, (ast.For, ast.comprehension)):
+                    allowed.append(node.iter)
+                elif isinstance(node, ast.Compare):
+                    allowed.extend(node.comparators)
+                elif isinstance(node, ast.Call) and ast.unparse(node.func) in ("dict", "list", "len"):
+                    allowed.extend(node.args)
+            self.none("L15", [(name, node.lineno, node.id) for node in ast.walk(tree) if isinstance(node, ast.Name)
+                              and isinstance(node.ctx, ast.Load) and node.id in tables and node not in allowed])
+
+    def test_l7_comprehensions_in_one_another_use_different_names(self):
+        kinds = (ast.ListComp, ast.DictComp, ast.SetComp)
+        for name, outer in nodes(kinds):
+            taken = self.targets(outer)
+            for inner in ast.walk(outer):
+                if isinstance(inner, kinds) and inner is not outer:
+                    self.none("L7", [(name, inner.lineno, word) for word in self.targets(inner) if word in taken])
+
+    def targets(self, comprehension):
+        return [node.id for part in comprehension.generators for node in ast.walk(part.target)
+                if isinstance(node, ast.Name)]
+
+    def test_l16_no_two_files_import_from_each_other(self):
+        above = {name[:-3]: {node.module.split(".")[1] for node in ast.walk(tree) if isinstance(node, ast.ImportFrom)}
+                 for name, tree in TREES.items()}
+        for name in above:
+            reached = set()
+            newest = set(above[name])
+            while newest:
+                reached |= newest
+                newest = {far for near in newest for far in above[near]} - reached
+            self.assertNotIn(name, reached, "L16")
 
     def test_l4_l5_functions_and_classes(self):
         self.none("L4", [(name, node.lineno) for name, node in nodes(ast.arguments) if node.posonlyargs])
